@@ -1,0 +1,1 @@
+"""Lendwharf: a stock shared by parted houses."""
