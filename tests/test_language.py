@@ -1,4 +1,4 @@
-"""The part of Python that the package keeps to, as far as a look at the files can tell."""
+"""Some of the rules of LANGUAGE.md, by a look at the files: L1 to L8, L10, L12, L14 to L17, L20, L25, each in part."""
 
 import ast
 import builtins
