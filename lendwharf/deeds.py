@@ -1,17 +1,20 @@
 """Deeds: makings, lendings and usings, done to a table."""
 
 from lendwharf.errors import NoDeed, NoHouse, Short
-from lendwharf.tables import is_house, is_whole, rights
+from lendwharf.looks import is_whole
+from lendwharf.tables import is_house, rights
 
 PARTS_OF_DEED = {"make": 3, "lend": 4, "use": 3}
 
 
-def is_deed(thing):
+def is_text_and_numbers(thing):
     if not isinstance(thing, tuple) or len(thing) == 0 or not isinstance(thing[0], str):
         return False
-    if len(thing) != PARTS_OF_DEED.get(thing[0]):
-        return False
-    return all([is_whole(part) for part in thing[1:]]) and thing[-1] >= 1
+    return all([is_whole(part) for part in thing[1:]])
+
+
+def is_deed(thing):
+    return is_text_and_numbers(thing) and len(thing) == PARTS_OF_DEED.get(thing[0]) and thing[-1] >= 1
 
 
 def need_houses_of_deed(table, deed):

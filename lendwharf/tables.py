@@ -1,13 +1,9 @@
 """Tables of rights: what each house ever made, lent and used."""
 
 from lendwharf.errors import NoHouse, NoTable
+from lendwharf.looks import is_between, is_whole
 
 MOST_HOUSES = 8
-
-
-def is_whole(thing):
-    # True and False are ints for Python, but no whole numbers here.
-    return isinstance(thing, int) and not isinstance(thing, bool)
 
 
 def is_row(thing, n):
@@ -28,7 +24,7 @@ def bare(n):
 
 
 def is_house(table, thing):
-    return is_whole(thing) and 0 <= thing < len(table)
+    return is_between(thing, 0, len(table) - 1)
 
 
 def rights(table, house):

@@ -15,6 +15,9 @@ THREE = (
 )
 RIGHTS_OF_THREE = [11, 0, -5]
 
+# Nothing of these is a table, so none comes about.
+NO_TABLES = ((), ((0,),), ((1, -1),), ([1, 0],), [(1, 0)], ((True, 0),), None, "1 0")
+
 
 def as_table(n, numbers):
     numbers = tuple(numbers)
@@ -57,3 +60,84 @@ def with_number(table, house, place, number):
     rows = [list(row) for row in table]
     rows[house][place] = number
     return tuple(tuple(row) for row in rows)
+
+
+def places_of(n):
+    return itertools.product(range(n), range(n + 1))
+
+
+def tables_one_step_on(table):
+    """Point 7 with k = 1: a making always, a lending or using where there is a right."""
+    n = len(table)
+    for house, place in places_of(n):
+        if place == house or rights_by_the_words(table, house) >= 1:
+            yield with_number(table, house, place, table[house][place] + 1)
+
+
+def all_that_come_about(n, most):
+    """Every table with no number above most to which some row of deeds leads."""
+    start = as_table(n, [0] * (n * (n + 1)))
+    found = {start}
+    fresh = [start]
+    while fresh:
+        table = fresh.pop()
+        for further in tables_one_step_on(table):
+            if further not in found and max(map(max, further)) <= most:
+                found.add(further)
+                fresh.append(further)
+    return found
+
+
+def grown_table(n, how_many, most, source):
+    """A table that comes about, by deeds of chance."""
+    table = [[0] * (n + 1) for _ in range(n)]
+    for _ in range(how_many):
+        house = source.randrange(n)
+        place = source.randrange(n + 1)
+        had = rights_by_the_words(table, house)
+        if place == house:
+            table[house][place] += source.randint(1, most)
+        elif had >= 1:
+            table[house][place] += source.randint(1, min(had, most))
+    return tuple(map(tuple, table))
+
+
+def grown_tables(how_many, seed):
+    source = random.Random(seed)
+    for _ in range(how_many):
+        n = source.randint(1, 8)
+        yield grown_table(n, source.randint(0, 40), source.choice([1, 3, 10 ** 25]), source)
+
+
+def lent_or_used_by_the_words(table, house):
+    n = len(table)
+    return any(table[house][place] for place in range(n + 1) if place != house)
+
+
+def is_root_list_by_the_words(table, houses):
+    """Point 8: each once, each that lent or used some, each with a root ahead of it."""
+    n = len(table)
+    for place, house in enumerate(houses):
+        if not 0 <= house < n or house in houses[:place]:
+            return False
+        if table[house][house] == 0 and all(table[ahead][house] == 0 for ahead in houses[:place]):
+            return False
+    return all(house in houses for house in range(n) if lent_or_used_by_the_words(table, house))
+
+
+def are_rootless_by_the_words(table, houses):
+    """Point 8: rising; none made any; no other house lent them any; one lent or used some."""
+    n = len(table)
+    if not all(0 <= house < n for house in houses) or sorted(set(houses)) != list(houses):
+        return False
+    if any(table[house][house] for house in houses):
+        return False
+    if any(table[other][house] for other in range(n) for house in houses if other not in houses):
+        return False
+    return any(lent_or_used_by_the_words(table, house) for house in houses)
+
+
+def subsets_of(n):
+    for size in range(n + 1):
+        for houses in itertools.combinations(range(n), size):
+            yield list(houses)

@@ -1,4 +1,7 @@
-"""Some of the rules of LANGUAGE.md, by a look at the files: L1 to L8, L10, L12, L14 to L17, L20, L25, each in part."""
+"""Some of the rules of LANGUAGE.md, by a look at the files.
+
+L1 to L8, L10, L12, L14 to L18, L20, L21, L23 to L25 and L27, each in part.
+"""
 
 import ast
 import builtins
@@ -89,7 +92,56 @@ def node_faults(node):
             yield "L20: is beside something else"
 
 
+def name_faults(tree):
+    """L15: a parameter or local called like an import or a class of the file."""
+    taken = [alias.asname or alias.name for node in ast.walk(tree) if isinstance(node, ast.ImportFrom)
+             for alias in node.names]
+    taken += [node.name for node in tree.body if isinstance(node, ast.ClassDef)]
+    for node in ast.walk(tree):
+        local = node.arg if isinstance(node, ast.arg) else None
+        if isinstance(node, ast.Name) and isinstance(node.ctx, ast.Store):
+            local = node.id
+        if local in taken:
+            yield f"L15: {local} is called like an import or a class"
+    tops = [name for node in tree.body for name in names_bound_by(node)]
+    for name in sorted(set(tops)):
+        if tops.count(name) > 1:
+            yield f"L15: {name} is bound twice"
+
+
+def names_bound_by(node):
+    if isinstance(node, ast.ImportFrom):
+        return [alias.asname or alias.name for alias in node.names]
+    if isinstance(node, ast.Assign):
+        return [target.id for target in node.targets if isinstance(target, ast.Name)]
+    return [node.name] if isinstance(node, (ast.FunctionDef, ast.ClassDef)) else []
+
+
+def is_call_of(node, names):
+    return isinstance(node, ast.Call) and isinstance(node.func, ast.Name) and node.func.id in names
+
+
+def value_faults(tree):
+    """L21, L23, L24, L27: annotations, walks and sets that are kept, powers, percent signs."""
+    for node in ast.walk(tree):
+        if isinstance(node, ast.AnnAssign) or getattr(node, "annotation", None) or getattr(node, "returns", None):
+            yield "L21: an annotation"
+        if isinstance(node, (ast.Assign, ast.AugAssign, ast.Return)) and node.value is not None:
+            if is_call_of(node.value, ("zip", "enumerate", "reversed", "range", "set", "frozenset")):
+                yield "L23, L24: a walk or a set is kept"
+            if isinstance(node.value, ast.Set):
+                yield "L24: a set is kept"
+        if isinstance(node, (ast.For, ast.comprehension)) and is_call_of(node.iter, ("set", "frozenset")):
+            yield "L24: a set is walked"
+        if isinstance(node, ast.BinOp) and isinstance(node.op, ast.Pow) and not isinstance(node.right, ast.Constant):
+            yield "L27: an exponent that isn't written"
+        if isinstance(node, ast.Constant) and isinstance(node.value, str) and "%" in node.value:
+            yield "L27: a percent sign in a text"
+
+
 def tree_faults(tree):
+    yield from name_faults(tree)
+    yield from value_faults(tree)
     for node in tree.body[1:]:
         if not isinstance(node, (ast.ImportFrom, ast.FunctionDef, ast.ClassDef, ast.Assign)):
             yield f"L3: {node.__class__.__name__} at the top"
@@ -125,7 +177,47 @@ def own_methods(trees):
                 yield from (part.name for part in node.body if isinstance(part, ast.FunctionDef))
 
 
+def own_values(trees):
+    for tree in trees:
+        for node in ast.walk(tree):
+            if isinstance(node, ast.Attribute) and isinstance(node.ctx, ast.Store):
+                yield node.attr
+
+
+def draws(trees):
+    """From each module of the package to the names that it draws from each other one."""
+    drawn = {}
+    for module, tree in trees.items():
+        rows = [node for node in ast.walk(tree) if isinstance(node, ast.ImportFrom)]
+        drawn[module] = {row.module.rpartition(".")[2]: [alias.name for alias in row.names] for row in rows}
+    return drawn
+
+
+def package_trees():
+    return {path.stem: ast.parse(path.read_text(encoding="utf-8")) for path in package_files()}
+
+
 class Language(unittest.TestCase):
+    def test_no_name_is_a_method_and_a_value(self):
+        trees = package_trees().values()
+        self.assertEqual(set(own_methods(trees)) & set(own_values(trees)), set())
+
+    def test_names_are_drawn_from_the_file_that_defines_them(self):
+        trees = package_trees()
+        for module, rows in draws(trees).items():
+            for source, names in rows.items():
+                defined = [name for node in trees[source].body if not isinstance(node, ast.ImportFrom)
+                           for name in names_bound_by(node)]
+                self.assertEqual(set(names) - set(defined), set(), module)
+
+    def test_no_two_files_draw_from_one_another(self):
+        drawn = draws(package_trees())
+        left = sorted(drawn)
+        while left:
+            ready = [module for module in left if not set(drawn[module]) & set(left)]
+            self.assertNotEqual(ready, [], left)
+            left = [module for module in left if module not in ready]
+
     def test_the_folder(self):
         paths = package_files()
         self.assertIn(FOLDER / "__init__.py", paths)
@@ -156,6 +248,10 @@ class TheLookItself(unittest.TestCase):
             "x = [a for a in b for c in d]",
             "def f(x):\n    return getattr(x, 'y')", "def f(len):\n    return len", "def f(_x):\n    return 1",
             "def f(x, y):\n    return x is y", "def f():\n    with x:\n        pass", "x = (a for a in b)",
+            "from lendwharf.errors import x\ndef f(x):\n    return 1", "def f():\n    return 1\nf = 2",
+            "class C:\n    pass\ndef f():\n    C = 1", "def f(x: int):\n    return 1", "def f() -> int:\n    return 1",
+            "def f(x):\n    y = zip(x, x)", "def f(x):\n    return set(x)", "def f(x):\n    y = {x}",
+            "def f(x):\n    for y in set(x):\n        pass", "def f(n):\n    return 2 ** n", "x = '5 %'",
             "def f():\n    yield 1", "if 1:\n    x = 1", "def f():\n" + "    x = 1\n" * 40,
         )
         for code in faulty:
