@@ -141,3 +141,58 @@ def subsets_of(n):
     for size in range(n + 1):
         for houses in itertools.combinations(range(n), size):
             yield list(houses)
+
+
+def chance_deed(n, letters, most, source):
+    kind = source.choice(("make", "lend", "lend", "use", "keep", "keep", "fall", "send", "come", "come"))
+    house = source.randrange(n)
+    if kind == "lend" and n > 1:
+        to = source.choice([other for other in range(n) if other != house])
+        return ("lend", house, to, source.randint(1, most))
+    if kind == "come" and letters:
+        return ("come", source.randrange(letters), house)
+    if kind in ("make", "use"):
+        return (kind, house, source.randint(1, most))
+    return (kind if kind in ("keep", "fall") else "send", house)
+
+
+def chance_run(n, how_many, most, source):
+    deeds = []
+    for _ in range(how_many):
+        letters = sum(deed[0] == "send" for deed in deeds)
+        deeds.append(chance_deed(n, letters, most, source))
+    return deeds
+
+
+class Touchy:
+    """Fails whenever it is looked into: a thing of a wrong kind must not be."""
+
+    def fail(self, *rest):
+        raise RuntimeError("looked into")
+
+    __eq__ = __lt__ = __le__ = __gt__ = __ge__ = fail
+    __len__ = __iter__ = __getitem__ = __bool__ = __hash__ = __index__ = fail
+
+
+def endless_list():
+    things = []
+    things.append(things)
+    return things
+
+
+def deep_tuple():
+    thing = ()
+    for _ in range(5000):
+        thing = (thing,)
+    return thing
+
+
+def other_things():
+    """Things of all kinds, none of them a tuple or list of what any point tells."""
+    loop = endless_list()
+    return [
+        None, True, False, 0, 1, -1, HUGE, "", "0", b"", {}, {0: 1}, set(), frozenset(), range(2), object(),
+        int, tuple, list, Touchy(), iter(()), loop, (loop,), [loop], deep_tuple(), [deep_tuple()],
+        (None,), [None], [0], (0,), ["01"], ("01",), [Touchy()], (Touchy(),), [{}], ({},), [set()],
+        (Touchy(), Touchy(), Touchy()), (loop, loop, loop), (None, None, None), (0, 0, 0), "abc", [[[]]],
+    ]

@@ -9,7 +9,7 @@ from lendwharf.errors import NoDeed, NoHouse, NoLetter, NoTable
 from lendwharf.runs import played
 from lendwharf.tables import bare, is_table, joined, stock
 
-from tests.samples import HUGE, NO_TABLES, grown_table, rights_by_the_words, with_number
+from tests.samples import HUGE, NO_TABLES, chance_run, grown_table, rights_by_the_words, with_number
 
 START = ((5, 2, 0, 0), (0, 0, 0, 1), (0, 0, 3, 0))
 
@@ -74,27 +74,6 @@ class Oracle:
 
     def tables(self):
         return [tuple(map(tuple, table)) for table in self.now]
-
-
-def chance_deed(n, letters, most, source):
-    kind = source.choice(("make", "lend", "lend", "use", "keep", "keep", "fall", "send", "come", "come"))
-    house = source.randrange(n)
-    if kind == "lend" and n > 1:
-        to = source.choice([other for other in range(n) if other != house])
-        return ("lend", house, to, source.randint(1, most))
-    if kind == "come" and letters:
-        return ("come", source.randrange(letters), house)
-    if kind in ("make", "use"):
-        return (kind, house, source.randint(1, most))
-    return (kind if kind in ("keep", "fall") else "send", house)
-
-
-def chance_run(n, how_many, most, source):
-    deeds = []
-    for _ in range(how_many):
-        letters = sum(deed[0] == "send" for deed in deeds)
-        deeds.append(chance_deed(n, letters, most, source))
-    return deeds
 
 
 class Played(unittest.TestCase):

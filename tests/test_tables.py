@@ -7,32 +7,9 @@ from lendwharf.errors import NoHouse, NoTable
 from lendwharf.tables import bare, is_table, is_within, joined, rights, stock
 
 from tests.samples import (
-    HUGE, RIGHTS_OF_THREE, THREE, chance_tables, many_tables, rights_by_the_words,
-    small_tables, with_number,
+    HUGE, RIGHTS_OF_THREE, THREE, Touchy, chance_tables, deep_tuple, endless_list, many_tables,
+    rights_by_the_words, small_tables, with_number,
 )
-
-
-class Touchy:
-    """Fails whenever it is looked into: a thing that is no table must not be."""
-
-    def fail(self, *rest):
-        raise RuntimeError("looked into")
-
-    __eq__ = __lt__ = __le__ = __gt__ = __ge__ = fail
-    __len__ = __iter__ = __getitem__ = __bool__ = __hash__ = __index__ = fail
-
-
-def endless_list():
-    things = []
-    things.append(things)
-    return things
-
-
-def deep_tuple():
-    thing = ()
-    for _ in range(5000):
-        thing = (thing,)
-    return thing
 
 
 class IsTable(unittest.TestCase):
