@@ -1,17 +1,13 @@
 """Plans of takings: a plan's question, whether a plan holds, what a cut weighs."""
 
 from lendwharf.errors import NoPlan
-from lendwharf.looks import is_between, is_rising
+from lendwharf.looks import is_between, is_rising, is_sized_tuple
 from lendwharf.roads import behind_round, is_road
 
 MOST_HOUSES_OF_PLAN = 6
 MOST_ROUNDS_OF_PLAN = 10
 MOST_TAKINGS = 20
 MOST_AT_ONCE = 1000000
-
-
-def is_sized_tuple(thing, least, most):
-    return isinstance(thing, tuple) and least <= len(thing) <= most
 
 
 def is_start(thing):
