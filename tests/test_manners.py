@@ -7,6 +7,7 @@ import unittest
 from lendwharf.errors import NoDeed, NoManner
 from lendwharf.manners import behind, first_stand, is_manner, may_do
 
+from tests.mannered import behind_by_the_words, chance_manner, may_do_by_the_words
 from tests.samples import HUGE, Touchy, other_things
 
 # House 0 asks, house 1 lends by a letter, house 0 uses when it comes; both may fall.
@@ -31,37 +32,6 @@ BAD_WORDS = (
 
 def with_part(parts, place, part):
     return parts[:place] + (part,) + parts[place + 1:]
-
-
-def may_do_by_the_words(manner, stand):
-    states, letters, used = stand
-    numbers = []
-    for number, (house, state, event, after, use, sent) in enumerate(manner[2]):
-        if states[house] == state and (event == "go" or event == "fall" or (house, event) in letters):
-            numbers.append(number)
-    return numbers
-
-
-def behind_by_the_words(manner, stand, number):
-    states, letters, used = stand
-    house, state, event, after, use, sent = manner[2][number]
-    changed = list(states)
-    changed[house] = after
-    return (tuple(changed), tuple(sorted(set(letters) | set(sent))), used + use)
-
-
-def chance_manner(source):
-    n = source.randint(1, 4)
-    words = ("a", "b", "go", "fall")
-    rules = []
-    for _ in range(source.randint(0, 10)):
-        letters = tuple((source.randrange(n), source.choice("xyz")) for _ in range(source.randint(0, 3)))
-        event = source.choice(("go", "fall", "x", "y", "z"))
-        use = source.choice((0, 0, 1))
-        rule = (source.randrange(n), source.choice(words), event, source.choice(words), use, letters)
-        if rule not in rules:
-            rules.append(rule)
-    return (source.randint(0, 20), tuple(source.choice(words) for _ in range(n)), tuple(rules))
 
 
 class Looks(unittest.TestCase):

@@ -153,7 +153,9 @@ class OfChance(Asked):
                 roads = tuple(
                     tuple((i, j, source.randint(1, most)) for i, j in pairs if source.random() < 0.4) for _ in range(10)
                 )
-                takings = tuple((source.randint(0, 10), source.randrange(6), source.randint(1, most)) for _ in range(20))
+                takings = tuple(
+                    (source.randint(0, 10), source.randrange(6), source.randint(1, most)) for _ in range(20)
+                )
                 question = (tuple(source.randint(0, most) for _ in range(6)), roads, takings)
                 self.assert_most(question)
                 self.assert_served(question)
